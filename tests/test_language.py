@@ -1,4 +1,4 @@
-"""Checks the package against those rules of LANGUAGE.md that can be seen row by row or node by node."""
+"""Checks the package against some of the rules of LANGUAGE.md; the others are left to the reader."""
 
 import ast
 import builtins
