@@ -3,28 +3,14 @@ import itertools
 import unittest
 from unittest import mock
 
+from samples import FAR, all_together, together
 from upleaf.cards import Card
 from upleaf.errors import BadSize, BadStair, NoColumn, NoCorner, NoEdge, NotJoined, NotSlit, Unlike, Wide
-from upleaf.stairs import corners, plain
+from upleaf.stairs import plain
 
-FAR = 10 ** 40 - 1
 DOC_STAIRS = ["wfwf", "wwff"]
 DOC_SLITS = [(1, 0)]
 SQUARE = ["wwff", "wfwf", "wffw", "fwwf", "fwfw", "ffww"]
-
-
-def together(stairs, edge, at):
-    """Cells fall together where they lie between the same two places."""
-    leaf = plain(stairs[0].count("w"), stairs[0].count("f"))
-    row = [leaf] + stairs + [leaf]
-    left, right = corners(row[edge]), corners(row[edge + 1])
-    return left[at:at + 2] == right[at:at + 2]
-
-
-def all_together(stairs):
-    return [
-        (edge, at) for edge in range(len(stairs) + 1) for at in range(len(stairs[0])) if together(stairs, edge, at)
-    ]
 
 
 def some_cards():

@@ -1,24 +1,16 @@
 import inspect
-import itertools
 import unittest
 
+from samples import FAR, all_stairs
 from upleaf import stairs
 from upleaf.errors import BadSize, BadStair, NoCorner
 from upleaf.stairs import corners, is_stair, plain, pushed, sides, squares, turned
 
-FAR = 10 ** 40 - 1
 NO_STAIRS = [
     "", "w", "f", "wwww", "ffff", "w" * 9 + "f", "w" + "f" * 9, "w" * 8, "f" * 8, "w" * 9 + "f" * 9,
     "wfx", "xwf", "wxf", "w f", " wf", "wf ", "WF", "wF", "wf\n", "wf/wf", "0", "wf" * 9, "wf" * 10000,
     "w" * 20000, "~",
 ]
-
-
-def all_stairs(height, depth):
-    for places in itertools.combinations(range(height + depth), height):
-        yield "".join("w" if k in places else "f" for k in range(height + depth))
-
-
 SMALL = [stair for height in range(1, 5) for depth in range(1, 5) for stair in all_stairs(height, depth)]
 GREAT = ["w" * 8 + "f" * 8, "f" * 8 + "w" * 8, "wf" * 8, "fw" * 8, "f" * 8 + "w", "f" + "w" * 8]
 

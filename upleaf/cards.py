@@ -1,13 +1,17 @@
 """Cards: columns of cells side by side between a wall and a floor."""
 
 from upleaf.errors import BadSize, BadStair, NoColumn, NoEdge, NotJoined, NotSlit, Unlike, Wide
-from upleaf.stairs import is_stair, plain, pushed, sides, turned
+from upleaf.stairs import cells_meet, is_stair, plain, pushed, sides, turned
 
 MOST_COLUMNS = 8
 
 
+def is_width(columns):
+    return 1 <= columns <= MOST_COLUMNS
+
+
 def check_columns(columns):
-    if not 1 <= len(columns) <= MOST_COLUMNS:
+    if not is_width(len(columns)):
         raise BadSize(f"a card has 1 to {MOST_COLUMNS} columns")
     for column, stair in enumerate(columns):
         # Column 0 is known to be a stair by the time another one is compared with it.
@@ -24,8 +28,7 @@ def fall_together(columns, edge, at):
     height, depth = sides(columns[0])
     leaf = plain(height, depth)
     stairs = [leaf, *columns, leaf]
-    left, right = stairs[edge], stairs[edge + 1]
-    return left[at] == right[at] and left[:at].count("w") == right[:at].count("w")
+    return cells_meet(stairs[edge], stairs[edge + 1], at)
 
 
 def check_slits(columns, slits):

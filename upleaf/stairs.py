@@ -26,12 +26,18 @@ def sides(stair):
     return stair.count("w"), stair.count("f")
 
 
-def plain(height, depth=None):
-    """The stair with all `w` first, as deep as high where no depth is told."""
+def checked_size(height, depth):
+    """Height and depth, as deep as high where no depth is told."""
     deep = height if depth is None else depth
     if not is_size(height, deep):
         raise BadSize(f"height and depth are from 1 to {LONGEST_SIDE}")
-    return "w" * height + "f" * deep
+    return height, deep
+
+
+def plain(height, depth=None):
+    """The stair with all `w` first, as deep as high where no depth is told."""
+    high, deep = checked_size(height, depth)
+    return "w" * high + "f" * deep
 
 
 def corners(stair):
@@ -69,3 +75,8 @@ def pushed(stair, corner):
     if not 1 <= corner < len(stair) or stair[corner - 1] == stair[corner]:
         raise NoCorner("no corner between two unlike cells")
     return stair[:corner - 1] + stair[corner] + stair[corner - 1] + stair[corner + 1:]
+
+
+def cells_meet(left, right, at):
+    """Whether the cells `at` of two stairs side by side fall together; only the cells up to there are needed."""
+    return left[at] == right[at] and left[:at].count("w") == right[:at].count("w")
