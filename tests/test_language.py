@@ -162,6 +162,38 @@ class Language(unittest.TestCase):
                     attributes.add(node.attr)
         self.assertEqual(methods & attributes, set())
 
+    def test_no_local_name_is_that_of_an_import_a_class_or_a_builtin(self):
+        for path, tree in self.each_tree():
+            imports = [node for node in tree.body if isinstance(node, ast.ImportFrom)]
+            outer = {alias.asname or alias.name for node in imports for alias in node.names} | set(dir(builtins))
+            outer |= {node.name for node in tree.body if isinstance(node, ast.ClassDef)}
+            inner = set()
+            for node in ast.walk(tree):
+                if isinstance(node, ast.arg):
+                    inner.add(node.arg)
+                if isinstance(node, ast.Name) and isinstance(node.ctx, ast.Store):
+                    inner.add(node.id)
+                if isinstance(node, ast.ExceptHandler) and node.name:
+                    inner.add(node.name)
+            self.assertEqual(inner & outer, set(), path.name)
+
+    def test_lists_are_handed_to_what_counts_and_compares(self):
+        for path, tree in self.each_tree():
+            for node in ast.walk(tree):
+                if isinstance(node, ast.Call) and isinstance(node.func, ast.Name):
+                    if node.func.id in ("any", "all", "min", "max", "sum", "sorted"):
+                        self.assertFalse([handed for handed in node.args if isinstance(handed, ast.GeneratorExp)])
+                if isinstance(node, ast.Call) and isinstance(node.func, ast.Attribute):
+                    self.assertNotEqual(node.func.attr, "sort")
+
+    def test_sets_are_used_where_they_stand(self):
+        for path, tree in self.each_tree():
+            for node in ast.walk(tree):
+                if isinstance(node, (ast.Assign, ast.Return)):
+                    self.assertNotIsInstance(node.value, (ast.Set, ast.SetComp))
+                    made = isinstance(node.value, ast.Call) and isinstance(node.value.func, ast.Name)
+                    self.assertFalse(made and node.value.func.id in ("set", "frozenset"))
+
     def test_errors_are_made_where_they_are_raised(self):
         for path, tree in self.each_tree():
             for node in ast.walk(tree):

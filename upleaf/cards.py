@@ -10,9 +10,13 @@ def is_width(columns):
     return 1 <= columns <= MOST_COLUMNS
 
 
-def check_columns(columns):
-    if not is_width(len(columns)):
+def check_width(columns):
+    if not is_width(columns):
         raise BadSize(f"a card has 1 to {MOST_COLUMNS} columns")
+
+
+def check_columns(columns):
+    check_width(len(columns))
     for column, stair in enumerate(columns):
         # Column 0 is known to be a stair by the time another one is compared with it.
         if not is_stair(stair) or sides(stair) != sides(columns[0]):

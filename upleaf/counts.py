@@ -1,7 +1,7 @@
 """Stairs and cards numbered from 0 on, in the order of texts and of lists of texts."""
 
-from upleaf.cards import MOST_COLUMNS, Card, is_width
-from upleaf.errors import BadNumber, BadSize
+from upleaf.cards import Card, check_width
+from upleaf.errors import BadNumber
 from upleaf.stairs import checked_size, sides
 
 
@@ -61,8 +61,7 @@ def stair_at(height, depth, number):
 def how_many(columns, height, depth=None):
     """How many cards of this size there are, those with slits left out."""
     each = ways(height, depth)
-    if not is_width(columns):
-        raise BadSize(f"a card has 1 to {MOST_COLUMNS} columns")
+    check_width(columns)
     many = 1
     for column in range(columns):
         many *= each

@@ -46,8 +46,8 @@ def solved(rows):
                 left = cleared(left, done[unknown], unknown)
         if not left:
             continue
-        # Small numbers stay small if a small one is told by the others.
-        chosen = min(list(left), key=lambda unknown: abs(left[unknown]))
+        # Rows told by an unknown of a small number keep small numbers.
+        chosen = min(list(left), key=lambda own: abs(left[own]))
         for unknown in list(done):
             if chosen in done[unknown]:
                 done[unknown] = cleared(done[unknown], left, chosen)
